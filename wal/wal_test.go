@@ -423,7 +423,26 @@ func TestEveryOrder(t *testing.T) {
 	}
 }
 
-// P6.1: as many files as may be.
+// P6.1: no entry asks for more room than a file has: a segment that is full to its last byte takes none, one that is nearly full of 256 takes the longest.
+func TestRoom(t *testing.T) {
+	longest := api.Entry{Index: 1<<40 - 1, Term: 1 << 40, Kind: 2, Data: bytes.Repeat([]byte{255}, 2048)}
+	x := opened(t)
+	x.append(t, entry(1<<40-2, below-6), longest)
+	if b, e := x.d.Read(nameFor(1<<40 - 2)); e != api.OK || len(b) != 224+2144 {
+		t.Errorf("%d bytes, %d", len(b), e)
+	}
+	var b []byte
+	for i := range 2048 {
+		b = append(b, recordOf(entry(int64(i+1), i%16))...)
+	}
+	x = newBoth()
+	x.put(t, map[string][]byte{nameFor(1): b})
+	x.ok(t, call{kind: "Open"})
+	x.append(t, entries(2049, 2048, 0)...)
+	x.has(t, "behind a file that is full", 1, 2050, nameFor(1), nameFor(2049), nameFor(2050))
+}
+
+// P6.1: as many files as may be; the disk's error is answered as it is.
 func TestManyFiles(t *testing.T) {
 	x := opened(t)
 	for i := range api.MaxFiles - 1 {
