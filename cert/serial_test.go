@@ -2,11 +2,13 @@ package cert_test
 
 import (
 	"fmt"
+	"math/rand/v2"
 	"slices"
 	"testing"
 
 	"quillet/api"
 	"quillet/cert"
+	"quillet/serial"
 )
 
 // written are the keys that transactions write.
@@ -111,9 +113,19 @@ func anyReplay(h []api.Done) bool {
 	return try()
 }
 
-// serial asks of all that have committed whether they could have been done one behind the other.
+// inOrder asks layer 12 whether those that have committed could have been done one behind the other.
+func inOrder(t *testing.T, conf cert.Conf, h []api.Done) {
+	t.Helper()
+	nums, ok := serial.Order(h)
+	if !serial.Right(h) || !ok || !serial.Reads(h, nums) {
+		t.Fatalf("%v: layer 12 has no order of %v: %v, stuck are %v", conf, h, nums, serial.Stuck(h))
+	}
+}
+
+// serial asks of all that have committed whether they could have been done one behind the other; layer 12 knows histories of at most 64.
 func (b *both) serial(t *testing.T) {
 	t.Helper()
+	inOrder(t, b.conf, b.done[:min(64, len(b.done))])
 	places, ok := order(b.done)
 	if !ok || !replay(b.done, places) {
 		t.Fatalf("%v: could not have been done one behind the other: %v", b.conf, b.done)
@@ -147,6 +159,9 @@ func TestAskingForAnOrder(t *testing.T) {
 		places, ok := order(c.h)
 		if ok != c.ok || ok && !replay(c.h, places) || anyReplay(c.h) != c.ok {
 			t.Errorf("%s: %v, %v, %v", name, places, ok, anyReplay(c.h))
+		}
+		if nums, ok := serial.Order(c.h); ok != c.ok || serial.Reads(c.h, nums) != c.ok {
+			t.Errorf("%s: by layer 12: %v, %v", name, nums, ok)
 		}
 	}
 }
@@ -183,6 +198,7 @@ func everyChoice(t *testing.T, conf cert.Conf, h []api.Done, from *cert.Cert) {
 				continue
 			}
 			all := append(slices.Clone(h), api.Done{Num: v.Num, Sub: s})
+			inOrder(t, conf, all)
 			if !anyReplay(all) {
 				t.Fatalf("%v: could not have been done one behind the other: %v", conf, all)
 			}
@@ -191,6 +207,50 @@ func everyChoice(t *testing.T, conf cert.Conf, h []api.Done, from *cert.Cert) {
 			}
 		}
 	}
+}
+
+// P11.3: of 64 that have committed, as many as layer 12 takes, Order finds an order, and Reads holds. What was refused would have spoilt that: always by ErrWrite, at times by ErrDanger.
+func TestLayer12HasAnOrder(t *testing.T) {
+	for i, conf := range confs() {
+		t.Run(fmt.Sprint(conf), func(t *testing.T) {
+			t.Parallel()
+			round := 0
+			for seed := range 6 {
+				d := dice{rand.New(rand.NewPCG(1112, uint64(10*seed+i))), keyPools()[seed%3]}
+				round += committed64(t, d, conf)
+			}
+			if round == 0 {
+				t.Errorf("nothing that was refused would have had no order")
+			}
+		})
+	}
+}
+
+// committed64 lets 64 commit, and tells how many that were ErrDanger would have had no order.
+func committed64(t *testing.T, d dice, conf cert.Conf) (round int) {
+	c := cert.New(conf)
+	var h []api.Done
+	for len(h) < 64 {
+		s := d.sub(c.Count(), c.Horizon())
+		all := append(slices.Clone(h), api.Done{Num: c.Count() + 1, Sub: s})
+		switch v := c.Decide(s); v.Code {
+		case api.OK:
+			h = all
+		case api.ErrWrite:
+			if serial.Right(all) {
+				t.Fatalf("%v: %v is refused by ErrWrite, behind %v", conf, s, h)
+			}
+		case api.ErrDanger:
+			if !serial.Right(all) {
+				t.Fatalf("%v: %v isn't ErrWrite, behind %v", conf, s, h)
+			}
+			if len(serial.Stuck(all)) > 0 {
+				round++
+			}
+		}
+	}
+	inOrder(t, conf, h)
+	return round
 }
 
 // apart says whether nobody beside a submission has read or written one of its keys.
