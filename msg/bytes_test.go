@@ -37,16 +37,20 @@ func TestCutAndMore(t *testing.T) {
 	decodes(t, nil)
 }
 
-// P17.3: a byte that is turned, at every place, in every way.
+// P17.3: a byte that is turned, at every place; in every way, or in a long frame by each bit and by all.
 func TestTurnedByte(t *testing.T) {
+	var every []int
+	for turn := 1; turn < 256; turn++ {
+		every = append(every, turn)
+	}
 	for _, m := range samples() {
 		b, _ := msg.Encode(m)
-		step := 1 + len(b)/200
+		ways := every
+		if len(b) > 200 {
+			ways = []int{1, 2, 4, 8, 16, 32, 64, 128, 255}
+		}
 		for i := range b {
-			if i > 20 && i%step > 0 {
-				continue
-			}
-			for turn := 1; turn < 256; turn++ {
+			for _, turn := range ways {
 				c := slices.Clone(b)
 				c[i] ^= byte(turn)
 				if got, code := msg.Decode(c); code != api.ErrForm || !equal(got, api.Msg{}) {
@@ -57,7 +61,7 @@ func TestTurnedByte(t *testing.T) {
 	}
 }
 
-// P17.1, P17.2: payloads that are cut, longer, or turned at any byte, in frames whose sums are right.
+// P17.1, P17.2: payloads of at most 200 bytes that are cut, longer, or turned at any byte, in frames whose sums are right.
 func TestTurnedPayload(t *testing.T) {
 	taken, refused := 0, 0
 	try := func(payload []byte) {

@@ -138,7 +138,7 @@ func entryTurns() []func(m *api.Msg) {
 	return out
 }
 
-// P17.1: every sample with every one change, and with every two.
+// P17.1: every sample with every one change, and the first sample of each kind with every two.
 func TestTurned(t *testing.T) {
 	ways := turns()
 	count := map[api.Errno]int{}
@@ -149,10 +149,12 @@ func TestTurned(t *testing.T) {
 			count[asks(t, m)]++
 		}
 	}
-	for i, good := range samples() {
-		if i%3 > 0 {
+	kinds := map[int]bool{}
+	for _, good := range samples() {
+		if kinds[good.Kind] {
 			continue
 		}
+		kinds[good.Kind] = true
 		for _, first := range ways {
 			for _, second := range ways {
 				m := good
@@ -162,7 +164,10 @@ func TestTurned(t *testing.T) {
 			}
 		}
 	}
-	if count[api.OK] < 10000 || count[api.ErrArg] < 10000 || count[api.ErrLong] < 30 {
+	if len(kinds) != 8 {
+		t.Errorf("of two changes are the kinds %v alone", kinds)
+	}
+	if count[api.OK] < 10000 || count[api.ErrArg] < 10000 || count[api.ErrLong] < 20 {
 		t.Errorf("too few of one kind: %v", count)
 	}
 }
@@ -304,7 +309,7 @@ func TestHuge(t *testing.T) {
 	}
 }
 
-// P17.1: Same holds every two against each other.
+// P17.1: Same of many twos, of which each has its neighbour and others that are drawn.
 func TestSame(t *testing.T) {
 	pool := samples()
 	for _, good := range samples() {
