@@ -387,7 +387,7 @@ func TestPowerEverywhere(t *testing.T) {
 			t.Run(fmt.Sprintf("%d, %d", nodes, k), func(t *testing.T) {
 				t.Parallel()
 				most := 0
-				for end := 0; ; end += 3 {
+				for end := 0; ; end++ {
 					x := watch(t, small(nodes, 0, 2))
 					x.seen.world.Calm(14)
 					script := busy(x)
